@@ -1,0 +1,1 @@
+"""Shoeparty: how many guests of a party find a pair of shoes that fits."""

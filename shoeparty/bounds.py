@@ -1,0 +1,10 @@
+"""The bounds of the package."""
+
+LIMIT = 1000
+MAX_SIZE = 1000000
+MAX_GUESTS = 20
+MAX_PAIRS = 20
+MAX_SHELF = 100
+SMALL = 6
+MAX_EDITS = 60
+BATCH = 20
