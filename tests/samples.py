@@ -35,6 +35,13 @@ def mixed_halls(many, top, guests=20, pairs=20):
         yield tuple(sizes[:guests]), tuple(sizes[guests:])
 
 
+def large_halls():
+    """Halls with up to 20 guests and 20 pairs, with few and with many different sizes."""
+    for top in [2, 25, LARGEST]:
+        for guests, pairs in [(20, 20), (20, 0), (20, 5), (6, 20)]:
+            yield from mixed_halls(5, top, guests, pairs)
+
+
 def all_runs(hall):
     """All runs of a small hall, in ascending order."""
     feet, pairs = hall

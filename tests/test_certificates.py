@@ -3,8 +3,8 @@ import unittest
 from itertools import product
 
 from samples import (
-    H, LARGEST, S, T, all_runs, all_tables, any_values, counts, least_numbers, mixed_halls, served_number,
-    small_halls, sorted_halls, telling_sizes, with_parts_replaced,
+    H, LARGEST, S, T, all_runs, all_tables, any_values, counts, large_halls, least_numbers, mixed_halls,
+    served_number, small_halls, sorted_halls, telling_sizes, with_parts_replaced,
 )
 from shoeparty.numbers import (
     possible_certificate, possible_certificate_holds, sure_certificate, sure_certificate_holds,
@@ -64,11 +64,9 @@ class SureTest(HoldsTest):
                     self.assertIn(value[1], all_tables(hall, number))
 
     def test_each_number_of_large_halls(self):
-        for top in [2, 25, 10 ** 6]:
-            for guests, pairs in [(20, 20), (20, 0), (20, 5), (6, 20)]:
-                for hall in mixed_halls(5, top, guests, pairs):
-                    for number in numbers_for(hall):
-                        self.check_kind(hall, number)
+        for hall in large_halls():
+            for number in numbers_for(hall):
+                self.check_kind(hall, number)
 
     def check_words(self, hall, number, table):
         sizes = sorted(set(hall[0]))
@@ -188,11 +186,9 @@ class PossibleTest(HoldsTest):
                     self.assertLess(sum(counts(hall, value[1])), number)
 
     def test_each_number_of_large_halls(self):
-        for top in [2, 25, 10 ** 6]:
-            for guests, pairs in [(20, 20), (20, 0), (20, 5), (6, 20)]:
-                for hall in mixed_halls(5, top, guests, pairs):
-                    for number in numbers_for(hall):
-                        self.check_kind(hall, number)
+        for hall in large_halls():
+            for number in numbers_for(hall):
+                self.check_kind(hall, number)
 
     def test_either_a_run_or_a_size_never_both(self):
         for hall in [S, T, *small_halls(), *list(sorted_halls())[::3]]:
