@@ -25,7 +25,8 @@ def fewest_served(hall):
     return min([max(counts_at(hall, size)) for size in _deciding_sizes(hall)])
 
 
-def _order_by_feet(hall):
+def order_by_feet(hall):
+    """Return the order in which the guests with smaller feet leave first."""
     ranks = sorted([(foot, guest) for guest, foot in enumerate(hall[0])])
     return tuple([guest for _, guest in ranks])
 
@@ -41,7 +42,7 @@ def _word_at(hall, number, size):
 def sure_certificate(hall, number):
     """Return a run that serves fewer than number guests, or a table that excludes it."""
     if number > fewest_served(hall):
-        return "run", large_run(hall, _order_by_feet(hall))
+        return "run", large_run(hall, order_by_feet(hall))
     return "table", tuple([_word_at(hall, number, size) for size in _foot_sizes(hall)])
 
 

@@ -51,8 +51,8 @@ def left_by(hall, run):
     return tuple([pair for pair in range(len(hall[1])) if pair not in taken])
 
 
-def _run_by_liking(hall, order, liking):
-    # liking has all pairs, those that everybody would rather take first.
+def run_by_liking(hall, order, liking):
+    """Return what these guests take, in this order: each the first pair of liking that fits and is left."""
     left = list(liking)
     run = []
     for guest in order:
@@ -68,11 +68,11 @@ def _run_by_liking(hall, order, liking):
 def small_run(hall, order):
     """Return the run in this order in which each takes the smallest pair that fits."""
     ranks = sorted([(size, pair) for pair, size in enumerate(hall[1])])
-    return _run_by_liking(hall, order, [pair for _, pair in ranks])
+    return run_by_liking(hall, order, [pair for _, pair in ranks])
 
 
 def large_run(hall, order):
     """Return the run in this order in which each takes the largest pair that fits."""
     # Negative sizes, not a reversed list: of equal pairs the smaller number comes first.
     ranks = sorted([(-size, pair) for pair, size in enumerate(hall[1])])
-    return _run_by_liking(hall, order, [pair for _, pair in ranks])
+    return run_by_liking(hall, order, [pair for _, pair in ranks])

@@ -1,5 +1,6 @@
 """Halls, runs and odd values for the tests, made without the package."""
 
+from functools import lru_cache
 from itertools import combinations_with_replacement, product
 
 LARGEST = 10 ** 6
@@ -63,6 +64,35 @@ def all_runs(hall):
 def served_number(run):
     """How many guests of a run are served."""
     return sum(1 for _, pair in run if pair >= 0)
+
+
+@lru_cache(maxsize=None)
+def least_served(feet, sizes):
+    """The least number of guests that are served in a run of a small hall, whoever leaves first."""
+    found = []
+    for at, foot in enumerate(feet):
+        others = feet[:at] + feet[at + 1:]
+        fitting = [place for place, size in enumerate(sizes) if size >= foot]
+        found += [1 + least_served(others, sizes[:place] + sizes[place + 1:]) for place in fitting]
+        if not fitting:
+            found.append(least_served(others, sizes))
+    return min(found, default=0)
+
+
+def all_can_be_matched(rows):
+    """Whether each row can have one of its numbers for itself alone."""
+    owners = {}
+
+    def find(at, tried):
+        for number in rows[at]:
+            if number not in tried:
+                tried.add(number)
+                if number not in owners or find(owners[number], tried):
+                    owners[number] = at
+                    return True
+        return False
+
+    return all(find(at, set()) for at in range(len(rows)))
 
 
 def counts(hall, size):

@@ -1,12 +1,16 @@
 import unittest
 
 from samples import H, S, T, mixed_halls
+from shoeparty import errors
 from shoeparty.halls import counts_at, hall_error, is_hall
+from shoeparty.more import can_miss, fewest_larger, fewest_more, run_leaving, run_with, run_without
 from shoeparty.numbers import (
     fewest_served, most_served, possible_certificate, possible_certificate_holds, sure_certificate,
     sure_certificate_holds,
 )
 from shoeparty.runs import is_run, large_run, left_by, served_by, small_run
+from shoeparty.texts import hall_text, parse_hall
+from shoeparty.values import Porter, Shelf
 
 
 def results(hall):
@@ -19,7 +23,18 @@ def results(hall):
         possible = possible_certificate(hall, number)
         found += [sure, sure_certificate_holds(hall, number, sure)]
         found += [possible, possible_certificate_holds(hall, number, possible)]
-    return found
+        found += [run_with(hall, number), fewest_more(hall, number), fewest_larger(hall, number)]
+    for guest in order:
+        found += [run_without(hall, guest), can_miss(hall, order, guest), can_miss(hall, order[::-1], guest)]
+    found += [run_leaving(hall, pair) for pair in range(len(hall[1]))]
+    return found + [hall_text(hall), parse_hall(hall_text(hall))] + values(hall[1], hall[0])
+
+
+def values(sizes, others):
+    shelf, other = Shelf(sizes), Shelf(others)
+    porter = Porter(shelf + other)
+    found = [shelf.sizes, str(shelf), len(shelf), shelf == other, other in shelf, (shelf + other - shelf).sizes]
+    return found + [porter(3), porter.left.sizes, porter.served, shelf.sizes, other.sizes]
 
 
 class ConventionsTest(unittest.TestCase):
@@ -41,6 +56,27 @@ class ConventionsTest(unittest.TestCase):
         step = [1, 1]
         self.assertIs(is_run(S, ((0, 0), step)), False)
         self.assertEqual((feet, pairs, step), ([2, 3], [0], [1, 1]))
+
+    def test_an_error_keeps_the_very_list_that_was_passed(self):
+        sizes = [3, 1]
+        for action, error in [(Shelf, errors.BadShelf), (Porter(Shelf((4,))), errors.BadFoot)]:
+            with self.assertRaises(error) as caught:
+                action(sizes)
+            self.assertIs(caught.exception.value, sizes)
+        self.assertEqual(sizes, [3, 1])
+
+    def test_shelves_and_porters_are_values_like_others(self):
+        for value in [Shelf(()), Shelf((2, 3)), Porter(Shelf((2, 3)))]:
+            self.assertEqual(hall_error(value), (None, "hall"))
+            self.assertEqual(hall_error((value, value)), (None, "feet"))
+            self.assertEqual(hall_error(((2, value), (2,))), (1, "foot"))
+            self.assertEqual(hall_error(((2,), value)), (None, "pairs"))
+            self.assertEqual(hall_error(((2,), (value,))), (0, "pair"))
+            for wrong in [value, (value, value), ((0, value), (1, -1)), ((value, 0), (1, 1))]:
+                self.assertIs(is_run(S, wrong), False)
+                for proof in [wrong, ("run", wrong), ("table", wrong), ("size", wrong), (wrong, (0, 1))]:
+                    self.assertIs(sure_certificate_holds(S, 1, proof), False)
+                    self.assertIs(possible_certificate_holds(S, 1, proof), False)
 
 
 if __name__ == "__main__":

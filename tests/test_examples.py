@@ -1,6 +1,8 @@
-"""The examples of the document: a session each, with the repr of its last expression."""
+"""The examples of the document: a session each, with the repr of its last expression or its error."""
 
 import unittest
+
+from shoeparty.errors import PartyError
 
 SESSIONS = {
     "is_hall": (
@@ -76,17 +78,107 @@ S = ((2, 3), (2, 4))
 """,
         "[True, False, True]",
     ),
+    "run_with": (
+        """
+from shoeparty.more import run_with
+S = ((2, 3), (2, 4))
+[run_with(S, 1), run_with(S, 0), run_with(S, 3)]
+""",
+        "[((0, 1), (1, -1)), None, None]",
+    ),
+    "run_without": (
+        """
+from shoeparty.more import run_leaving, run_without
+S = ((2, 3), (2, 4))
+[run_without(S, 1), run_without(S, 0), run_leaving(S, 0), run_leaving(S, 1)]
+""",
+        "[((0, 1), (1, -1)), None, ((0, 1), (1, -1)), None]",
+    ),
+    "can_miss": (
+        """
+from shoeparty.more import can_miss
+S = ((2, 3), (2, 4))
+[can_miss(S, (0, 1), 1), can_miss(S, (1, 0), 1), can_miss(S, (1, 0), 0)]
+""",
+        "[True, False, False]",
+    ),
+    "fewest_more": (
+        """
+from shoeparty.more import fewest_larger, fewest_more
+S = ((2, 3), (2, 4))
+H = ((38, 40, 42, 44, 45), (36, 39, 41, 43, 46))
+[fewest_more(S, 2), fewest_more(H, 4), fewest_more(H, 6), fewest_larger(S, 2), fewest_larger(((2, 3), (4,)), 2)]
+""",
+        "[1, 3, None, 1, None]",
+    ),
+    "Shelf": (
+        """
+from shoeparty.values import Shelf
+shelf = Shelf((41, 38, 41))
+[shelf.sizes, len(shelf)]
+""",
+        "[(38, 41, 41), 3]",
+    ),
+    "shelf[value]": (
+        """
+from shoeparty.values import Shelf
+one = Shelf((38, 41, 41))
+other = Shelf((41,))
+[one[1], (one + other).sizes, (one - other).sizes, other in one, one in other]
+""",
+        "[41, (38, 41, 41, 41), (38, 41), True, False]",
+    ),
+    "len of a shelf": (
+        """
+from shoeparty.values import Shelf
+shelf = Shelf((12000, 9))
+[str(shelf), shelf == Shelf((9, 12000)), shelf == (9, 12000)]
+""",
+        "['       9  12,000', True, False]",
+    ),
+    "Porter": (
+        """
+from shoeparty.values import Porter, Shelf
+porter = Porter(Shelf((2, 4)))
+[porter(3), porter(3), porter(1), porter.left.sizes, porter.served]
+""",
+        "[4, None, 2, (), 2]",
+    ),
+    "hall_text": (
+        """
+from shoeparty.texts import hall_text
+S = ((2, 3), (2, 4))
+[hall_text(S), hall_text(((7,), ()))]
+""",
+        "['2,3 / 2,4', '7 / -']",
+    ),
+    "parse_hall": (
+        """
+from shoeparty.texts import parse_hall
+parse_hall('2,3 / 2,0')
+""",
+        "raises BadText(2)",
+    ),
 }
+
+
+def shown_by(session):
+    """The repr of the last expression of a session, or the error that it raises."""
+    *rows, last = session.strip().splitlines()
+    names = {}
+    exec("\n".join(rows), names)
+    try:
+        return repr(eval(last, names))
+    except (PartyError, LookupError) as error:
+        fields = ", ".join([repr(field) for field in vars(error).values()])
+        return f"raises {type(error).__name__}({fields})"
 
 
 class ExamplesTest(unittest.TestCase):
     def test_sessions(self):
         for name, (session, shown) in SESSIONS.items():
             with self.subTest(name):
-                *rows, last = session.strip().splitlines()
-                names = {}
-                exec("\n".join(rows), names)
-                self.assertEqual(repr(eval(last, names)), shown)
+                self.assertEqual(shown_by(session), shown)
 
 
 if __name__ == "__main__":

@@ -12,6 +12,24 @@ INTERFACE = {
         "most_served", "fewest_served", "sure_certificate", "possible_certificate",
         "sure_certificate_holds", "possible_certificate_holds",
     ],
+    "more": ["run_with", "run_without", "run_leaving", "can_miss", "fewest_more", "fewest_larger"],
+    "texts": ["hall_text", "parse_hall"],
+}
+CLASSES = {
+    "errors": {
+        "PartyError": [], "TooLarge": ["__init__"], "BadShelf": ["__init__"], "TooManyPairs": [],
+        "Missing": ["__init__"], "BadFoot": ["__init__"], "BadHall": ["__init__"], "Busy": [], "TooManyEdits": [],
+        "TooManyGuests": [], "LastGuest": [], "BadSize": ["__init__"], "NothingToUndo": [], "BadEdits": [],
+        "BadEdit": ["__init__"], "Rejected": ["__init__"], "BadNumber": ["__init__"], "TooFewServed": ["__init__"],
+        "BadText": ["__init__"], "NoPlace": ["__init__"], "NoGuest": ["__init__"], "NoPair": ["__init__"],
+        "NoVersion": ["__init__"],
+    },
+    "values": {
+        "Shelf": [
+            "__init__", "__getitem__", "__iter__", "__add__", "__sub__", "__contains__", "__len__", "__str__", "__eq__",
+        ],
+        "Porter": ["__init__", "__call__"],
+    },
 }
 
 
@@ -51,6 +69,15 @@ class FormTest(unittest.TestCase):
             defined = [part.name for part in body if isinstance(part, ast.FunctionDef)]
             for name in names:
                 self.assertIn(name, defined, module)
+
+    def test_classes_and_their_methods_stand_in_the_file_that_the_interface_names(self):
+        for module, classes in CLASSES.items():
+            body = ast.parse((FOLDER / (module + ".py")).read_text()).body
+            defined = {part.name: part.body for part in body if isinstance(part, ast.ClassDef)}
+            self.assertEqual(sorted(defined), sorted(classes), module)
+            for name, methods in classes.items():
+                own = [part.name for part in defined[name] if isinstance(part, ast.FunctionDef)]
+                self.assertEqual(sorted(own), sorted(methods), name)
 
 
 if __name__ == "__main__":
