@@ -10,6 +10,11 @@ def _fitting(hall, guest, left):
     return [pair for pair in left if pairs[pair] >= feet[guest]]
 
 
+def pairs_for(hall, guest, left):
+    """Return the pairs of left of which the guest takes any one: NO_PAIR alone if none fits."""
+    return _fitting(hall, guest, left) or [NO_PAIR]
+
+
 def _may_leave(hall, staying, left, item):
     if not is_tuple(item, 2, 2):
         return False

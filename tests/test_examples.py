@@ -111,6 +111,22 @@ H = ((38, 40, 42, 44, 45), (36, 39, 41, 43, 46))
 """,
         "[1, 3, None, 1, None]",
     ),
+    "count_runs": (
+        """
+from shoeparty.counting import count_runs, count_served
+S = ((2, 3), (2, 4))
+[count_runs(S), count_served(S)]
+""",
+        "[3, (0, 1, 2)]",
+    ),
+    "each_run": (
+        """
+from shoeparty.counting import each_run
+S = ((2, 3), (2, 4))
+list(each_run(S))
+""",
+        "[((0, 0), (1, 1)), ((0, 1), (1, -1)), ((1, 1), (0, 0))]",
+    ),
     "Shelf": (
         """
 from shoeparty.values import Shelf
@@ -144,6 +160,112 @@ porter = Porter(Shelf((2, 4)))
 """,
         "[4, None, 2, (), 2]",
     ),
+    "Party": (
+        """
+from shoeparty.parties import Party
+S = ((2, 3), (2, 4))
+party = Party(S)
+[party.hall == S, party.most, party.fewest, len(party)]
+""",
+        "[True, 2, 1, 0]",
+    ),
+    "MOST_EDITS": (
+        """
+from shoeparty.parties import Party
+[Party.MOST_EDITS, Party(((7,), ())).most]
+""",
+        "[60, 0]",
+    ),
+    "come": (
+        """
+from shoeparty.parties import Party
+S = ((2, 3), (2, 4))
+party = Party(S)
+[party.put(3), party.fewest, party.take(0), party.hall, party.leave(0), party.hall]
+""",
+        "[1, 2, 2, ((2, 3), (4, 3)), 3, ((3,), (4, 3))]",
+    ),
+    "undo": (
+        """
+from shoeparty.parties import Party
+S = ((2, 3), (2, 4))
+party = Party(S)
+[party.take(1), party.most, party.undo(), party.most]
+""",
+        "[1, 1, 0, 2]",
+    ),
+    "attempt": (
+        """
+from shoeparty.parties import Party
+S = ((2, 3), (2, 4))
+party = Party(S)
+party.attempt([('come', 9), ('take', 2)])
+""",
+        "raises Rejected(1)",
+    ),
+    "state": (
+        """
+from shoeparty.parties import Party
+party = Party(((7,), ()))
+[party.put(8), party.state(), party.state(version=0)]
+""",
+        "[1, ((7,), (8,)), ((7,), ())]",
+    ),
+    "certificate": (
+        """
+from shoeparty.parties import Party
+S = ((2, 3), (2, 4))
+Party(S).certificate(2)
+""",
+        "('run', ((0, 1), (1, -1)))",
+    ),
+    "walk": (
+        """
+from shoeparty.parties import Party
+list(Party(((3, 2, 9), (2, 4))).walk())
+""",
+        "[(0, 4, (2,)), (1, 2, ()), (2, 0, ())]",
+    ),
+    "edits": (
+        """
+from shoeparty.parties import Party
+party = Party(((7,), ()))
+[party.put(8), party.edits()]
+""",
+        "[1, (('put', 8),)]",
+    ),
+    "read": (
+        """
+from shoeparty.parties import Party
+Party.read('2,3 / 2,4').hall
+""",
+        "((2, 3), (2, 4))",
+    ),
+    "len of a party": (
+        """
+from shoeparty.parties import Party
+S = ((2, 3), (2, 4))
+[str(Party(S)), Party(S) == Party(((3, 2), (4, 2)))]
+""",
+        "['2 guests, 2 pairs, served 1 to 2, 0 edits', True]",
+    ),
+    "Pledge": (
+        """
+from shoeparty.pledges import Pledge
+made = Pledge(3)
+[made.pledge, made.spare(5)]
+""",
+        "[3, 2]",
+    ),
+    "PledgedParty": (
+        """
+from shoeparty.parties import PledgedParty
+S = ((2, 3), (2, 4))
+party = PledgedParty(S, 1)
+[party.spare(party.fewest), party.put(9), party.fewest, party.take(0), party.take(0), party.take(0)]
+""",
+        "raises TooFewServed(0)",
+    ),
     "hall_text": (
         """
 from shoeparty.texts import hall_text
@@ -158,6 +280,24 @@ from shoeparty.texts import parse_hall
 parse_hall('2,3 / 2,0')
 """,
         "raises BadText(2)",
+    ),
+    "Shell": (
+        """
+from shoeparty.parties import Party
+from shoeparty.shells import Shell
+Shell(Party(((7,), ()))).execute('party')
+""",
+        "'7 / -'",
+    ),
+    "execute": (
+        """
+from shoeparty.parties import Party
+from shoeparty.shells import Shell
+S = ((2, 3), (2, 4))
+shell = Shell(Party(S))
+[shell.execute('fewest'), shell.execute('sure 2'), shell.execute('without 1'), shell.execute('without 2'), shell.execute('put 3'), shell.execute('sure 2'), shell.execute('take')]
+""",
+        "['1', 'run', 'yes', 'error NoGuest', 'ok 1', 'table', 'unknown command']",
     ),
 }
 

@@ -13,6 +13,7 @@ INTERFACE = {
         "sure_certificate_holds", "possible_certificate_holds",
     ],
     "more": ["run_with", "run_without", "run_leaving", "can_miss", "fewest_more", "fewest_larger"],
+    "counting": ["count_runs", "count_served", "each_run"],
     "texts": ["hall_text", "parse_hall"],
 }
 CLASSES = {
@@ -30,6 +31,15 @@ CLASSES = {
         ],
         "Porter": ["__init__", "__call__"],
     },
+    "pledges": {"Pledge": ["__init__", "spare"]},
+    "parties": {
+        "Party": [
+            "__init__", "come", "leave", "put", "take", "undo", "attempt", "state", "certificate", "walk", "edits",
+            "read", "__len__", "__str__", "__eq__",
+        ],
+        "PledgedParty": ["__init__"],
+    },
+    "shells": {"Shell": ["__init__", "execute"]},
 }
 
 
@@ -77,7 +87,8 @@ class FormTest(unittest.TestCase):
             self.assertEqual(sorted(defined), sorted(classes), module)
             for name, methods in classes.items():
                 own = [part.name for part in defined[name] if isinstance(part, ast.FunctionDef)]
-                self.assertEqual(sorted(own), sorted(methods), name)
+                listed = [one for one in own if one.startswith("__") or not one.startswith("_")]
+                self.assertEqual(sorted(listed), sorted(methods), name)
 
 
 if __name__ == "__main__":
