@@ -19,6 +19,7 @@ def _sorted_sizes(hall):
 class Party:
     """A hall that is edited; hall, most and fewest are always up to date and are only read."""
 
+    # The number MAX_EDITS: a class value is written as a literal.
     MOST_EDITS = 60
 
     def __init__(self, hall):
